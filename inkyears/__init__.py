@@ -1,0 +1,1 @@
+"""Inkyears: undated letters, what their inks and words tell of their years."""
