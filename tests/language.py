@@ -31,6 +31,11 @@ NODES = (
     "BitAnd BitOr BitXor LShift RShift Invert USub UAdd Not And Or Eq NotEq Lt LtE Gt GtE Is IsNot In NotIn"
 ).split()
 
+WALKERS = ["list", "tuple", "dict", "sorted", "sum", "any", "all", "enumerate", "zip"]
+CHANGES = ["append", "clear", "extend", "insert", "pop", "remove", "reverse", "setdefault", "update"]
+KINDS = [str, int, list, tuple, dict, set, bytes]
+VALUES = ["count", "index", "title", "find", "get", "join", "lower", "upper", "split", "strip", "copy", "add"]
+
 
 def file_faults(text):
     for number, line in enumerate(text.split("\n"), 1):
@@ -42,6 +47,10 @@ def file_faults(text):
             yield "L17", number
     if text.count("\n") > 400:
         yield "L10", 400
+
+
+def holds_a_list(node):
+    return any(isinstance(part, (ast.List, ast.Dict)) for part in ast.walk(node) if part is not node)
 
 
 def is_plain(node):
@@ -67,6 +76,8 @@ def top_faults(tree):
             bound.extend(part.asname or part.name for part in node.names)
         elif isinstance(node, ast.Assign) and isinstance(node.targets[0], ast.Name) and is_plain(node.value):
             bound.append(node.targets[0].id)
+            if isinstance(node.value, (ast.List, ast.Dict)) and holds_a_list(node.value):
+                yield "L15", node.lineno
         elif not (place == 0 and is_text_row(node)):
             yield "L3", node.lineno
         if len(set(bound)) < len(bound):
@@ -143,9 +154,74 @@ def value_faults(node):
         yield "L27", node.lineno
 
 
+def is_call_of(node, names):
+    return isinstance(node, ast.Call) and isinstance(node.func, ast.Name) and node.func.id in names
+
+
+def stands_as_a_class(node, above):
+    """Whether a class, or a name of Python's own, is called, a base, or by isinstance, except, raise, or as a key."""
+    if isinstance(above, ast.Tuple):
+        return True
+    if is_call_of(above, ["isinstance"]):
+        return node in (above.func, above.args[1])
+    if isinstance(above, ast.Call):
+        return node is above.func
+    if isinstance(above, ast.Attribute):
+        return above.attr == "__init__"
+    return isinstance(above, (ast.ClassDef, ast.ExceptHandler, ast.Raise)) or getattr(above, "arg", "") == "key"
+
+
+def is_walked(node, above):
+    if isinstance(above, (ast.For, ast.comprehension)):
+        return node is above.iter
+    if is_call_of(above, WALKERS):
+        return node is above.args[0]
+    if is_call_of(above, ["min", "max"]):
+        return len(above.args) == 1
+    return isinstance(above, ast.Call) and getattr(above.func, "attr", "") == "join"
+
+
+def is_set_in_place(node, parents):
+    above = parents[node]
+    while isinstance(above, ast.BinOp):
+        above = parents[above]
+    return isinstance(above, ast.Compare) or is_call_of(above, ["sorted", "len"]) and not above.keywords
+
+
+def changed_in(loop):
+    for node in ast.walk(ast.Module(loop.body, [])):
+        if isinstance(node, ast.Subscript) and isinstance(node.ctx, ast.Store):
+            yield ast.dump(node.value)
+        if isinstance(node, ast.Call) and isinstance(node.func, ast.Attribute) and node.func.attr in CHANGES:
+            yield ast.dump(node.func.value)
+
+
+def use_faults(tree):
+    parents = {part: node for node in ast.walk(tree) for part in ast.iter_child_nodes(node)}
+    classes = [name for row in tree.body if isinstance(row, ast.ImportFrom) for name in [part.name for part in row.names]]
+    classes = [name for name in classes if re.fullmatch("[A-Z].*[a-z].*", name)]
+    classes += [node.name for node in tree.body if isinstance(node, ast.ClassDef)]
+    for node in ast.walk(tree):
+        if isinstance(node, ast.Name) and isinstance(node.ctx, ast.Load) and not stands_as_a_class(node, parents[node]):
+            if node.id in classes:
+                yield "L18", node.lineno
+            if node.id in ALLOWED_NAMES:
+                yield "L22", node.lineno
+        named = isinstance(node, ast.Call) and getattr(node.func, "attr", "") in ("items", "keys", "values")
+        if (named or is_call_of(node, ["zip", "enumerate", "reversed", "range"])) and not is_walked(node, parents[node]):
+            yield "L23", node.lineno
+        if isinstance(node, ast.For) and ast.dump(node.iter) in list(changed_in(node)):
+            yield "L23", node.lineno
+        if (isinstance(node, ast.Set) or is_call_of(node, ["set"])) and not is_set_in_place(node, parents):
+            yield "L24", node.lineno
+        if isinstance(node, ast.Attribute) and isinstance(node.ctx, ast.Store):
+            if any(hasattr(kind, node.attr) for kind in KINDS) and node.attr not in VALUES:
+                yield "L26", node.lineno
+
+
 def faults_of(text, own_methods=()):
     tree = ast.parse(text)
-    found = list(file_faults(text)) + list(top_faults(tree))
+    found = list(file_faults(text)) + list(top_faults(tree)) + list(use_faults(tree))
     for node in ast.walk(tree):
         if node.__class__.__name__ not in NODES:
             found.append(("L6 or L7", getattr(node, "lineno", 0)))
@@ -160,6 +236,11 @@ def faults_of(text, own_methods=()):
 def methods_of(text):
     classes = [node for node in ast.parse(text).body if isinstance(node, ast.ClassDef)]
     return [part.name for node in classes for part in node.body if isinstance(part, ast.FunctionDef)]
+
+
+def values_of(text):
+    nodes = [node for node in ast.walk(ast.parse(text)) if isinstance(node, ast.Attribute)]
+    return [node.attr for node in nodes if isinstance(node.ctx, ast.Store)]
 
 
 def drawn_from(text):

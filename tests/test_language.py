@@ -8,7 +8,7 @@ import unittest
 HERE = pathlib.Path(__file__).resolve().parent
 sys.path.insert(0, str(HERE))
 
-from language import PACKAGE, defined_in, drawn_from, faults_of, methods_of  # noqa: E402
+from language import PACKAGE, defined_in, drawn_from, faults_of, methods_of, values_of  # noqa: E402
 
 FOLDER = HERE.parent / PACKAGE
 GOOD = '"""Why."""\n\nfrom inkyears.words import is_name\n\nMOST = 3\n\n\ndef told(word):\n    return word[0:MOST]\n'
@@ -34,12 +34,24 @@ BAD = [
     ("L15", "MOST = 3\nMOST = 4\n"),
     ("L15", "def told(id):\n    return 1\n"),
     ("L15", "def told(some):\n    max = some\n    return 1\n"),
+    ("L15", "TABLES = [[1], [2]]\n"),
+    ("L15", "TABLES = {'a': ([1], 2)}\n"),
     ("L17", "# a type of ink\n"),
     ("L17", "def told(some):\n    return some.open\n"),
+    ("L18", "from inkyears.errors import NoAge\n\n\ndef told(some):\n    return [NoAge]\n"),
+    ("L18", "class Some:\n    pass\n\n\ndef told(some):\n    return some(Some)\n"),
     ("L19", "def told(some):\n    try:\n        return some\n    except Exception:\n        return 1\n"),
     ("L20", "def told(some):\n    return some is 3\n"),
     ("L20", "def told(some, other):\n    return some is not other\n"),
     ("L21", "def told(some: int):\n    return some\n"),
+    ("L22", "def told(some):\n    kept = len\n    return kept(some)\n"),
+    ("L23", "def told(some):\n    kept = range(some)\n    return kept\n"),
+    ("L23", "def told(some):\n    return len(some.items())\n"),
+    ("L23", "def told(some):\n    for one in some:\n        some.append(one)\n"),
+    ("L23", "def told(some):\n    for one in some:\n        some[0] = one\n"),
+    ("L24", "def told(some):\n    return set(some)\n"),
+    ("L24", "def told(some):\n    for one in {1, 2}:\n        some.append(one)\n"),
+    ("L26", "class Some:\n    def __init__(self):\n        self.items = 3\n"),
     ("L25", "def told(some):\n    return some.title()\n"),
     ("L27", "def told(n):\n    return 2 ** n\n"),
     ("L27", "MOST = '%'\n"),
@@ -68,6 +80,11 @@ class LanguageTest(unittest.TestCase):
         for name, text in texts().items():
             with self.subTest(name=name):
                 self.assertEqual(faults_of(text, own), [])
+
+    def test_no_name_is_a_method_and_a_value(self):
+        methods = {name for text in texts().values() for name in methods_of(text)}
+        values = {name for text in texts().values() for name in values_of(text)}
+        self.assertEqual(methods & values, set())
 
     def test_names_are_drawn_from_where_they_are_defined(self):
         for text in texts().values():
