@@ -1,4 +1,4 @@
-"""Whether a heap has a dating: the earliest one, or a ring of steps; the least costs of its chains."""
+"""Whether a heap has a dating: the earliest one, or a ring of steps; the least costs of its chains, and such chains."""
 
 from inkyears.errors import Stuck
 from inkyears.steps import steps_of
@@ -46,8 +46,7 @@ def ring_behind(raisers, place):
     return ring
 
 
-def settled(archive, sayings):
-    steps = steps_of(archive, sayings)
+def settled_by(archive, steps):
     ground = len(archive.letters)
     # From a year ahead of the span each letter is raised at least once, so that a step stands behind its year.
     years = [archive.first - 1] * ground + [0]
@@ -61,6 +60,15 @@ def settled(archive, sayings):
     return ("ring", ring_behind(raisers, raised))
 
 
+def settled(archive, sayings):
+    return settled_by(archive, steps_of(archive, sayings))
+
+
+def refuse_rings(archive, steps):
+    if settled_by(archive, steps)[0] == "ring":
+        raise Stuck()
+
+
 def span_costs(archive):
     ground = len(archive.letters)
     # From letter to letter the span leads over the ground.
@@ -71,12 +79,11 @@ def span_costs(archive):
     return costs
 
 
-def least_costs(archive, sayings):
-    if settled(archive, sayings)[0] == "ring":
-        raise Stuck()
+def costs_by(archive, steps):
+    refuse_rings(archive, steps)
     ground = len(archive.letters)
     costs = span_costs(archive)
-    for step in steps_of(archive, sayings):
+    for step in steps:
         start = place_of(step[0], ground)
         end = place_of(step[1], ground)
         costs[start][end] = min(costs[start][end], step[2])
@@ -85,3 +92,33 @@ def least_costs(archive, sayings):
             for end in range(ground + 1):
                 costs[start][end] = min(costs[start][end], costs[start][over] + costs[over][end])
     return costs
+
+
+def least_costs(archive, sayings):
+    return costs_by(archive, steps_of(archive, sayings))
+
+
+def lead_on(steps, costs, lasts):
+    ground = len(costs) - 1
+    for step in steps:
+        start = place_of(step[0], ground)
+        end = place_of(step[1], ground)
+        if costs[start] is not None and (costs[end] is None or costs[start] + step[2] < costs[end]):
+            costs[end] = costs[start] + step[2]
+            lasts[end] = step
+
+
+def least_chain(archive, steps, start, end):
+    ground = len(archive.letters)
+    costs = [None] * (ground + 1)
+    costs[start] = 0
+    lasts = [None] * (ground + 1)
+    # Without rings below nought a chain of least cost needs no place twice, so it has no more steps than letters.
+    for turn in range(ground):
+        lead_on(steps, costs, lasts)
+    chain = []
+    while end != start:
+        chain.append(lasts[end])
+        end = place_of(lasts[end][0], ground)
+    chain.reverse()
+    return chain

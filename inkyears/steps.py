@@ -24,3 +24,8 @@ def steps_of(archive, sayings):
     for letter in range(len(archive.letters)):
         steps.extend(span_steps(archive, letter))
     return steps
+
+
+def steps_without(archive, sayings, numbers):
+    # Left out here and not from the sayings, the others keep the numbers that they have in the whole heap.
+    return [step for step in steps_of(archive, sayings) if step[3] not in numbers]

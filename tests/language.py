@@ -219,9 +219,19 @@ def use_faults(tree):
                 yield "L26", node.lineno
 
 
+def local_faults(tree):
+    rows = [node for node in tree.body if isinstance(node, ast.ImportFrom)]
+    taken = [part.name for row in rows for part in row.names]
+    taken += [node.name for node in tree.body if isinstance(node, ast.ClassDef)]
+    for node in ast.walk(tree):
+        stored = isinstance(node, ast.Name) and isinstance(node.ctx, ast.Store)
+        if stored and node.id in taken or isinstance(node, ast.arg) and node.arg in taken:
+            yield "L15", node.lineno
+
+
 def faults_of(text, own_methods=()):
     tree = ast.parse(text)
-    found = list(file_faults(text)) + list(top_faults(tree)) + list(use_faults(tree))
+    found = list(file_faults(text)) + list(top_faults(tree)) + list(use_faults(tree)) + list(local_faults(tree))
     for node in ast.walk(tree):
         if node.__class__.__name__ not in NODES:
             found.append(("L6 or L7", getattr(node, "lineno", 0)))

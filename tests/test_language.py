@@ -34,6 +34,8 @@ BAD = [
     ("L15", "MOST = 3\nMOST = 4\n"),
     ("L15", "def told(id):\n    return 1\n"),
     ("L15", "def told(some):\n    max = some\n    return 1\n"),
+    ("L15", "from inkyears.nets import settled\n\n\ndef told(settled):\n    return 1\n"),
+    ("L15", "from inkyears.nets import settled\n\n\ndef told(some):\n    settled = some\n    return 1\n"),
     ("L15", "TABLES = [[1], [2]]\n"),
     ("L15", "TABLES = {'a': ([1], 2)}\n"),
     ("L17", "# a type of ink\n"),

@@ -1,169 +1,21 @@
 """Points 2, 3, 4, 11 and 13 to 16: datings, rings and least costs, over many small heaps."""
 
 import itertools
-import random
+import pathlib
+import sys
 import unittest
 
 from inkyears.archives import Archive
-from inkyears.errors import ArchiveError, Stuck
+from inkyears.errors import Stuck
 from inkyears.nets import holds, least_costs, settled
 from inkyears.sayings import saying_of
 from inkyears.steps import steps_of
 
-TABLE = [90, 70, 70, 40, 10]
-# As many lists of years as are gone through for one heap.
-MOST_LISTS = 1500
+sys.path.insert(0, str(pathlib.Path(__file__).resolve().parent))
 
-
-class Heap:
-    """An archive with sayings, kept as words and parts too, so that what they say is known without the program."""
-
-    def __init__(self, archive, told):
-        self.archive = archive
-        self.told = told
-        self.sayings = [saying_of(archive, word, parts) for word, parts in told]
-
-    def years(self):
-        return range(self.archive.first, self.archive.present + 1)
-
-    def is_small(self):
-        return len(self.years()) ** len(self.archive.letters) <= MOST_LISTS
-
-    def is_dating(self, years):
-        if len(years) != len(self.archive.letters) or any(year not in self.years() for year in years):
-            return False
-        return all(self.is_so(word, parts, dict(zip(self.archive.letters, years))) for word, parts in self.told)
-
-    def is_so(self, word, parts, years):
-        own = years[parts[0]]
-        if word == "ink":
-            table = dict(self.archive.inks)[parts[1]]
-            return abs(table[min(self.archive.present - own, len(table) - 1)] - parts[2]) <= parts[3]
-        if word in ("reign", "under"):
-            begin, length = {name: (begin, length) for name, begin, length in self.archive.reigns}[parts[1]]
-            return own == begin + parts[2] - 1 if word == "reign" else begin <= own < begin + length
-        if word == "between":
-            return parts[1] <= own <= parts[2]
-        gap = own - years[parts[1]]
-        return {
-            "after": lambda: gap > 0,
-            "same": lambda: gap == 0,
-            "within": lambda: 0 <= gap <= parts[2],
-            "apart": lambda: parts[2] <= gap <= parts[3],
-        }[word]()
-
-    def datings(self):
-        lists = itertools.product(self.years(), repeat=len(self.archive.letters))
-        return [list(years) for years in lists if self.is_dating(list(years))]
-
-
-def some_saying(chance, archive):
-    """A word and parts near the archive's span, so that many heaps can just be dated and many just can't."""
-    letters = archive.letters
-    span = archive.present - archive.first
-    word = chance.choice(["ink", "reign", "under", "between"] + ["after", "same", "within", "apart"] * (len(letters) > 1))
-    own = chance.choice(letters)
-    other = chance.choice([letter for letter in letters if letter != own] or letters)
-    if word == "ink":
-        return word, [own, "iron", TABLE[chance.randint(0, min(span, 4))], chance.choice([0, 5, 20, 40])]
-    if word == "reign":
-        return word, [own, "mary", chance.randint(1, archive.reigns[0][2])]
-    if word == "under":
-        return word, [own, "mary"]
-    if word == "between":
-        low = archive.first + chance.randint(-1, span)
-        return word, [own, low, low + chance.randint(0, span + 1)]
-    low = chance.randint(-span, span) if span < 300 else chance.randint(-200, 200)
-    more = {"within": [chance.randint(0, span)], "apart": [low, min(300, low + chance.randint(0, span // 2 + 1))]}
-    return word, [own, other] + more.get(word, [])
-
-
-def some_heap(chance, span, letters, sayings):
-    first = chance.choice([-3000, -span, -3, 0, 1500, 3000 - span])
-    reign = ("mary", first + chance.randint(0, span), chance.randint(1, min(100, span + 1)))
-    archive = Archive(first, first + span, list("abcdefgh")[:letters], [("iron", TABLE)], [reign])
-    return Heap(archive, [some_saying(chance, archive) for _ in range(sayings)])
-
-
-def some_heap_with_a_dating(chance, span, letters, sayings):
-    """Sayings that are all so of one list of years."""
-    bare = some_heap(chance, span, letters, 0)
-    years = {letter: chance.choice(bare.years()) for letter in bare.archive.letters}
-    told = []
-    while len(told) < sayings:
-        word, parts = some_saying(chance, bare.archive)
-        if bare.is_so(word, parts, years):
-            told.append((word, parts))
-    return Heap(bare.archive, told)
-
-
-def heaps():
-    chance = random.Random(20)
-    made = []
-    for span, letters in [(0, 1), (0, 3), (0, 8), (1, 2), (1, 8), (2, 3), (2, 6), (3, 5), (5, 3), (5, 4), (10, 3), (30, 2)]:
-        for sayings in list(range(7)) * 4 + [8, 10, 12, 14, 16, 16]:
-            made.append(some_heap(chance, span, letters, sayings))
-    for span, letters in [(7, 8), (20, 5), (40, 8), (100, 4), (100, 8), (299, 6), (300, 1), (300, 7), (300, 8)]:
-        for sayings in list(range(9)) * 2 + [10, 12, 14, 16, 16]:
-            made.append(some_heap(chance, span, letters, sayings))
-    for span, letters in [(1, 8), (3, 5), (5, 4), (10, 3), (30, 8), (150, 6), (300, 8)]:
-        for sayings in [4, 8, 12, 15, 15, 15, 16, 16, 16]:
-            heap = some_heap_with_a_dating(chance, span, letters, sayings)
-            made.append(heap)
-            # One saying more, among the others, often shuts the last dating.
-            place = chance.randint(0, sayings)
-            told = heap.told[:place] + [some_saying(chance, heap.archive)] + heap.told[place:]
-            made.append(Heap(heap.archive, told[:16]))
-    return made
-
-
-HEAPS = heaps()
-
-
-def earliest_by_raising(heap):
-    """Each letter's least year, found by pushing years up one by one; None where one is pushed out of the span."""
-    years = {letter: heap.archive.first for letter in heap.archive.letters}
-    moved = True
-    while moved:
-        moved = False
-        for word, parts in heap.told:
-            while not heap.is_so(word, parts, years):
-                later = parts[0]
-                if word in ("after", "same", "within", "apart"):
-                    gap = years[parts[0]] - years[parts[1]]
-                    most = {"after": gap, "same": 0, "within": parts[-1], "apart": parts[-1]}[word]
-                    later = parts[1] if gap > most else parts[0]
-                years[later] += 1
-                moved = True
-                if years[later] > heap.archive.present:
-                    return None
-    return list(years.values())
-
-
-def chain_costs(steps, start):
-    """The least cost to each end of all chains from a start without a place twice, gone through one by one."""
-    costs = {}
-
-    def go(place, cost, been):
-        costs[place] = min(cost, costs.get(place, cost))
-        for begin, end, more, _ in steps:
-            if begin == place and end not in been:
-                go(end, cost + more, been + [end])
-
-    go(start, 0, [start])
-    return costs
-
-
-def costs_step_by_step(steps, start, most):
-    """The least cost to each end of all chains from a start with so many steps at most."""
-    costs = {start: 0}
-    for _ in range(most):
-        longer = dict(costs)
-        for begin, end, more, _ in steps:
-            if begin in costs:
-                longer[end] = min(costs[begin] + more, longer.get(end, costs[begin] + more))
-        costs = longer
-    return costs
+from heaps import (  # noqa: E402
+    HEAPS, TABLE, Heap, HeapCase, chain_costs, costs_step_by_step, earliest_by_raising, greatest_years, least_years,
+)
 
 
 def is_stuck(heap):
@@ -240,17 +92,7 @@ class HoldsTest(unittest.TestCase):
             self.assertEqual((years, self.heap.sayings), before)
 
 
-class SettledTest(unittest.TestCase):
-    def assert_ring(self, heap, ring):
-        self.assertIs(type(ring), list)
-        self.assertGreater(len(ring), 0)
-        for step in ring:
-            self.assertIn(step, steps_of(heap.archive, heap.sayings))
-        for step, after in zip(ring, ring[1:] + ring[:1]):
-            self.assertEqual(step[1], after[0])
-        self.assertLess(sum(step[2] for step in ring), 0)
-        self.assertEqual(len({step[0] for step in ring}), len(ring))
-
+class SettledTest(HeapCase):
     def test_kinds(self):
         for heap in HEAPS:
             told = settled(heap.archive, heap.sayings)
@@ -281,6 +123,14 @@ class SettledTest(unittest.TestCase):
                     self.assertEqual(told[1], least)
                     self.assertTrue(heap.is_dating(told[1]))
                     self.assertIs(holds(heap.archive, heap.sayings, told[1]), True)
+
+    def test_the_two_ways_of_pushing_years_agree(self):
+        for heap in HEAPS:
+            self.assertEqual(least_years(heap.archive, heap.limits), earliest_by_raising(heap), heap.told)
+            greatest = greatest_years(heap.archive, heap.limits)
+            self.assertEqual(greatest is None, is_stuck(heap))
+            if heap.is_small() and greatest is not None:
+                self.assertEqual(greatest, [max(years) for years in zip(*heap.datings())])
 
     def test_rings(self):
         for heap in HEAPS:
@@ -344,16 +194,11 @@ class SettledTest(unittest.TestCase):
                     self.assertEqual(settled(heap.archive, heap.sayings)[1], min(datings))
 
 
-class LeastCostsTest(unittest.TestCase):
-    def assert_stuck(self, heap):
-        with self.assertRaises(ArchiveError) as taken:
-            least_costs(heap.archive, heap.sayings)
-        self.assertIs(type(taken.exception), Stuck)
-
+class LeastCostsTest(HeapCase):
     def test_stuck_where_there_is_no_dating(self):
         for heap in HEAPS:
             if is_stuck(heap):
-                self.assert_stuck(heap)
+                self.assert_refused(Stuck, least_costs, heap.archive, heap.sayings)
 
     def test_against_going_through_all_chains(self):
         for heap in HEAPS:
