@@ -155,7 +155,7 @@ class GapWithTest(HeapCase):
             self.assertEqual(self.assert_refused(NoGap, gap_with, archive, heap.sayings, 0, 1, gap).gap, gap)
 
     def test_no_gap(self):
-        for heap in DATED[::6]:
+        for heap in DATED[::10]:
             for one, other in pairs_of(heap):
                 least, greatest = gap_of(heap.archive, heap.sayings, one, other)[:2]
                 for gap in [least - 1, greatest + 1] + FAR:

@@ -73,9 +73,10 @@ class HoldsTest(unittest.TestCase):
     def test_against_what_the_sayings_say(self):
         for heap in HEAPS:
             if heap.is_small():
+                datings = {tuple(years) for years in heap.datings()}
                 for years in itertools.product(heap.years(), repeat=len(heap.archive.letters)):
                     told = holds(heap.archive, heap.sayings, list(years))
-                    self.assertIs(told, heap.is_dating(list(years)), (heap.told, years))
+                    self.assertIs(told, years in datings, (heap.told, years))
 
     def test_near_the_earliest_dating(self):
         for heap in HEAPS:
