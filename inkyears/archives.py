@@ -51,7 +51,7 @@ class Archive:
         self.present = present
         self.letters = list(letters)
         self.inks = [(name, list(table)) for name, table in inks]
-        self.reigns = list(reigns)
+        self.reigns = [(name, begin, length) for name, begin, length in reigns]
 
     def table(self, name):
         for other, table in self.inks:

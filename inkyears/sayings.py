@@ -2,7 +2,7 @@
 
 from inkyears.errors import BadSaying, NoAge
 from inkyears.inks import ages_of, reign_year
-from inkyears.words import is_whole_from
+from inkyears.words import is_whole_from, spaced
 
 PARTS = {
     "ink": ("letter", "ink", "dark", "dark"),
@@ -29,7 +29,7 @@ class Saying:
         self.spoken = [archive.letters.index(name) for name in names]
         self.low = low
         self.high = high
-        self.text = " ".join([word] + [str(part) for part in parts])
+        self.text = spaced([word] + list(parts))
 
     def about(self):
         return list(self.spoken)

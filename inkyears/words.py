@@ -1,4 +1,4 @@
-"""What a whole number is, and which words write a number or a name."""
+"""What a whole number is, which words write a number or a name, and how words are shown in a row."""
 
 FIGURES = "0123456789"
 MOST_FIGURES = 10
@@ -29,3 +29,7 @@ def is_number(word):
 
 def is_name(word):
     return is_made_of(word, LETTERS, MOST_LETTERS)
+
+
+def spaced(parts):
+    return " ".join([str(part) for part in parts])

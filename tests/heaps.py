@@ -85,6 +85,43 @@ class Heap:
     def has_dating(self):
         return least_years(self.archive, self.limits) is not None
 
+    def parts(self):
+        """The letters linked with one another, found by going on from letter to letter."""
+        links = [{letter, other} for letter, other, low, high in self.limits if other is not None]
+        parts = []
+        for letter in self.letters():
+            if not any(letter in part for part in parts):
+                found = {letter}
+                for _ in links:
+                    found = found.union(*[link for link in links if link & found])
+                parts.append(sorted(found))
+        return parts
+
+    def years_in_part(self, part):
+        """The years of a part's letters in the datings, in order, found by fixing the years of one letter after another."""
+        limits = [limit for limit in self.limits if limit[0] in part]
+
+        def go(years):
+            fixed = limits + [(letter, None, year, year) for letter, year in zip(part, years)]
+            least = least_years(self.archive, fixed)
+            greatest = greatest_years(self.archive, fixed)
+            own = part[len(years)]
+            for year in [] if least is None else range(least[own], greatest[own] + 1):
+                if len(years) + 1 == len(part):
+                    yield years + (year,)
+                else:
+                    yield from go(years + (year,))
+
+        return go(())
+
+    @functools.cache
+    def too_many(self):
+        """The least letter of the first part with more than 2000 datings, or None."""
+        for part in self.parts():
+            if len(list(itertools.islice(self.years_in_part(part), 2001))) > 2000:
+                return part[0]
+        return None
+
 
 def some_saying(chance, archive):
     """A word and parts near the archive's span, so that many heaps can just be dated and many just can't."""
@@ -234,6 +271,9 @@ def costs_step_by_step(steps, start, most):
 HEAPS = heaps()
 DATED = [heap for heap in HEAPS if heap.has_dating()]
 STUCK = [heap for heap in HEAPS if not heap.has_dating()]
+# Of those with a dating, the ones whose datings are all listed and the ones that have too many.
+LISTED = [heap for heap in DATED if heap.too_many() is None]
+CROWDED = [heap for heap in DATED if heap.too_many() is not None]
 # Where much is asked of each heap, fewer of them do.
 SOME_HEAPS = HEAPS[::4] + HEAPS[-20:]
 
@@ -242,6 +282,26 @@ def example():
     """a is of 1518 or 1519, b at most nine years earlier, c earlier than b."""
     archive = Archive(1500, 1520, ["a", "b", "c"], [("iron", TABLE)], [("mary", 1505, 7)])
     return Heap(archive, [("ink", ["a", "iron", 70, 0]), ("within", ["a", "b", 9]), ("after", ["b", "c"])])
+
+
+def linked(one, other):
+    """Two letters linked by a saying that shuts nothing in a span of 300 years."""
+    return ("apart", [one, other, -300, 300])
+
+
+def many_years(many, parts):
+    """Letters of so many years each, from 0 on, in such parts, so that a part has as many datings as these multiplied."""
+    names = list("abcdefgh")[:len(many)]
+    told = [("between", [name, 0, some - 1]) for name, some in zip(names, many) if some < 301]
+    for part in parts:
+        told += [linked(names[one], names[other]) for one, other in zip(part, part[1:])]
+    return Heap(Archive(0, 300, names, [("iron", TABLE)], []), told)
+
+
+def with_no_dating(heap):
+    """The heap with one more saying, by which the last letter is of a year beyond the span."""
+    year = heap.archive.present + 1
+    return Heap(heap.archive, heap.told + [("between", [heap.archive.letters[-1], year, year])])
 
 
 def lists_in(told):
